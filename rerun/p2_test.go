@@ -1,0 +1,132 @@
+package rerun_test
+
+import (
+	"slices"
+	"testing"
+
+	"rerun/api"
+	"rerun/rerun"
+)
+
+// roomyProgram is p, with spare room that holds something behind each list.
+func roomyProgram(p api.Program) api.Program {
+	room := make([][]api.Ins, 0, len(p.Threads)+2)
+	for _, c := range p.Threads {
+		room = append(room, append(slices.Clone(c), api.Ins{Op: 99, A: 98, B: 97, N: 96}, set(3, 33))[:len(c)])
+	}
+	room = append(room, code(set(1, 11)), code(set(2, 22)))
+	return api.Program{Threads: room[:len(p.Threads)]}
+}
+
+func roomySchedule(s []int) []int {
+	return append(slices.Clone(s), -7, 77, 1, 2)[:len(s)]
+}
+
+// wholeProgram copies all that p's lists reach, spare room too.
+func wholeProgram(p api.Program) [][]api.Ins {
+	var all [][]api.Ins
+	for _, c := range p.Threads[:cap(p.Threads)] {
+		all = append(all, slices.Clone(c[:cap(c)]))
+	}
+	return all
+}
+
+func samePrograms(a, b [][]api.Ins) bool {
+	return slices.EqualFunc(a, b, func(x, y []api.Ins) bool { return slices.Equal(x, y) })
+}
+
+type runCase struct {
+	p api.Program
+	s []int
+}
+
+// runCases: runs of every kind of verdict, and refusals.
+func runCases() []runCase {
+	return []runCase{
+		{program(grow(), grow()), []int{0, 1, 0, 0, 0, 1, 1, 1}},
+		{program(grow(), grow()), []int{0, 0, 2}},
+		{program(grow(), grow()), []int{0}},
+		{program(grow(), grow()), nil},
+		{program(code(lock(0), lock(1)), code(lock(1), lock(0))), []int{0, 1}},
+		{program(code(set(0, 3), store(2, 0), assert(1))), []int{0, 0, 0, 0}},
+		{program(code(div(0, 0))), []int{0}},
+		{program(code(jump(0, 0)), code(lock(2), unlock(2)), nil), append(times(498, 0), 1, 1)},
+		{program(grow(), grow()), times(501, 0)},
+		{program(grow(), code(set(4, 0))), []int{0, 1}},
+		{program(), []int{0, 1}},
+		{program(longThread(17, set(0, 0))), []int{0, 1}},
+	}
+}
+
+func TestP2ArgumentsAreAsTheyWere(t *testing.T) {
+	for k, c := range runCases() {
+		p, s := roomyProgram(c.p), roomySchedule(c.s)
+		wantP, wantS := wholeProgram(p), slices.Clone(s[:cap(s)])
+		rerun.Check(p)
+		rerun.Replay(p, s)
+		if !samePrograms(wholeProgram(p), wantP) || !slices.Equal(s[:cap(s)], wantS) {
+			t.Errorf("P2: line %d: %v, %v, want %v, %v", k, wholeProgram(p), s[:cap(s)], wantP, wantS)
+		}
+	}
+}
+
+// spoil writes into all that a result reaches, spare room too.
+func spoil(r *api.Result, n int) {
+	for i := range r.Steps[:cap(r.Steps)] {
+		r.Steps[:cap(r.Steps)][i] = api.Step{Thread: n, At: n}
+	}
+	for i := range r.Regs[:cap(r.Regs)] {
+		r.Regs[:cap(r.Regs)][i] = [api.Registers]int{n, n, n, n}
+	}
+}
+
+func cloneResult(r api.Result) api.Result {
+	r.Steps = slices.Clone(r.Steps[:cap(r.Steps)])
+	r.Regs = slices.Clone(r.Regs[:cap(r.Regs)])
+	return r
+}
+
+func TestP2AnswersAreNewMemory(t *testing.T) {
+	for k, c := range runCases() {
+		p, s := roomyProgram(c.p), roomySchedule(c.s)
+		wantP, wantS := wholeProgram(p), slices.Clone(s[:cap(s)])
+		first, e := rerun.Replay(p, s)
+		want := cloneResult(first)
+		want.Steps, want.Regs = want.Steps[:len(first.Steps)], want.Regs[:len(first.Regs)]
+		second, _ := rerun.Replay(p, s)
+		secondWhole := cloneResult(second)
+		spoil(&first, -5)
+		if !equalResults(cloneResult(second), secondWhole) {
+			t.Errorf("P2: line %d: an answer changed with another one", k)
+		}
+		if !samePrograms(wholeProgram(p), wantP) || !slices.Equal(s[:cap(s)], wantS) {
+			t.Errorf("P2: line %d: the arguments changed with the answer", k)
+		}
+		third, f := rerun.Replay(p, s)
+		if e != f || !equalResults(third, want) {
+			t.Errorf("P2: line %d: %v behind a spoilt answer, want %v", k, third, want)
+		}
+	}
+}
+
+func TestP2ArgumentsAreNotKept(t *testing.T) {
+	p, s := program(grow(), grow()), []int{0, 0, 0, 0, 1}
+	r := mustReplay(t, p, s)
+	want := cloneResult(r)
+	p.Threads[0][1] = set(1, 40)
+	p.Threads[1] = code(load(3, 0))
+	if !equalResults(cloneResult(r), want) {
+		t.Errorf("P2: the answer changed with the program: %v, want %v", r, want)
+	}
+	again := mustReplay(t, p, s)
+	if again.Vars != [4]int{40} || !slices.Equal(again.Regs, [][4]int{{40, 40}, {0, 0, 0, 40}}) || again.Verdict != verdict(api.Clean) {
+		t.Errorf("P2: the changed program: %v", again)
+	}
+	s[0] = 2
+	if got := mustReplay(t, p, s); got.Verdict != wrong(0) {
+		t.Errorf("P2: the changed schedule: %v", got)
+	}
+	if !equalResults(cloneResult(r), want) {
+		t.Errorf("P2: the answer changed with the schedule: %v, want %v", r, want)
+	}
+}

@@ -1,0 +1,58 @@
+// Package rerun: schedules of threads, run again, made shorter, and told apart: see DOC.md.
+package rerun
+
+import (
+	"rerun/api"
+	"rerun/machine"
+)
+
+// Check tells whether a program is one (P3).
+func Check(p api.Program) api.Errno {
+	if !machine.Valid(p) {
+		return api.ErrProgram
+	}
+	return api.OK
+}
+
+// Replay runs a program by a schedule (P3).
+func Replay(p api.Program, schedule []int) (api.Result, api.Errno) {
+	if e := checkRun(p, schedule); e != api.OK {
+		return api.Result{}, e
+	}
+	return machine.New(p).Run(schedule), api.OK
+}
+
+// checkRun tells what keeps a program from being run by a schedule: the
+// program is looked at first, whatever the schedule is.
+func checkRun(p api.Program, schedule []int) api.Errno {
+	if e := Check(p); e != api.OK {
+		return e
+	}
+	if len(schedule) > api.MaxSchedule {
+		return api.ErrArg
+	}
+	return api.OK
+}
+
+// Encode writes an artifact (P4).
+func Encode(a api.Artifact) (string, api.Errno) { return "", api.OK }
+
+// Decode reads an artifact (P4).
+func Decode(bytes string) (api.Artifact, api.Errno) { return api.Artifact{}, api.OK }
+
+// Print writes a schedule (P5).
+func Print(schedule []int) (string, api.Errno) { return "", api.OK }
+
+// Parse reads a schedule (P5).
+func Parse(text string) ([]int, int, api.Errno) { return nil, 0, api.OK }
+
+// Form is a schedule's form (P6).
+func Form(p api.Program, schedule []int) ([]int, api.Errno) { return nil, api.OK }
+
+// Same tells whether two schedules are the same (P6).
+func Same(p api.Program, a []int, b []int) (bool, api.Errno) { return false, api.OK }
+
+// Shorten makes a schedule shorter (P7).
+func Shorten(p api.Program, schedule []int, fuel int) ([]int, int, api.Errno) {
+	return nil, 0, api.OK
+}
