@@ -71,4 +71,11 @@ func (d *dice) roll(n int) int {
 	return int(uint64(*d)>>33) % n
 }
 
+// shake sets a few bytes anew.
+func (d *dice) shake(b []byte) {
+	for range min(len(b), 1+d.roll(20)) {
+		b[d.roll(len(b))] = byte(d.roll(256))
+	}
+}
+
 func oneOf[T any](d *dice, list ...T) T { return list[d.roll(len(list))] }

@@ -2,6 +2,7 @@ package rerun_test
 
 import (
 	"slices"
+	"strings"
 	"testing"
 
 	"rerun/api"
@@ -40,16 +41,16 @@ func callAll(t *testing.T, p api.Program, a, b []int, n int, text string) {
 		t.Errorf("P1: Encode: beside the error %d: %q", e, bytes)
 	}
 	artifact, e := rerun.Decode(text)
-	if e != api.OK && (len(artifact.Program.Threads) != 0 || len(artifact.Schedule) != 0 || artifact.Verdict != api.Verdict{}) {
+	if e != api.OK && !isNoArtifact(artifact) {
 		t.Errorf("P1: Decode(%q): beside the error %d: %v", text, e, artifact)
 	}
 	printed, e := rerun.Print(a)
 	if e != api.OK && printed != "" {
 		t.Errorf("P1: Print(%v): beside the error %d: %q", a, e, printed)
 	}
-	parsed, _, e := rerun.Parse(text)
-	if e != api.OK && len(parsed) != 0 {
-		t.Errorf("P1: Parse(%q): beside the error %d: %v", text, e, parsed)
+	parsed, at, e := rerun.Parse(text)
+	if e != api.OK && len(parsed) != 0 || e == api.OK && at != 0 || at < 0 || at > len(text) {
+		t.Errorf("P1: Parse(%q): %v, %d beside %d", text, parsed, at, e)
 	}
 	form, e := rerun.Form(p, a)
 	if e != api.OK && len(form) != 0 {
@@ -115,6 +116,85 @@ func TestP1FirstErrorIsTold(t *testing.T) {
 		r, e := rerun.Replay(program(grow(), grow()), s)
 		if e != api.ErrArg || !isNothing(r) {
 			t.Errorf("P1: Replay(%d numbers): %v, %d, want nothing and ErrArg", len(s), r, e)
+		}
+	}
+}
+
+// An artifact with several faults: the program's is told, whatever the rest is.
+func TestP1FirstErrorOfEncode(t *testing.T) {
+	schedules := [][]int{nil, {0}, {-1}, {64}, times(501, 0)}
+	verdicts := []api.Verdict{{Kind: 1}, {}, {Kind: 6}, {Kind: 1, Thread: 4}, {Kind: 1, At: 501}, {Kind: least, Thread: least, At: least}}
+	for _, p := range edgePrograms() {
+		for i, s := range schedules {
+			for j, v := range verdicts {
+				want := rerun.Check(p)
+				if want == api.OK && (i > 1 || j > 0) {
+					want = api.ErrArg
+				}
+				if got, e := rerun.Encode(artifact(p, s, v)); e != want || (got == "") != (e != api.OK) {
+					t.Errorf("P1: Encode(%.100v, %d numbers, %v): %q, %d, want %d", p, len(s), v, got, e, want)
+				}
+			}
+		}
+	}
+}
+
+// Any bytes at all: those of an artifact cut, with more behind, and shaken; a
+// text of each byte, and of each byte behind a good beginning.
+func TestP1AnyBytesAndTexts(t *testing.T) {
+	d := dice(11)
+	list := []string{"", strings.Repeat("\x80", 100000), strings.Repeat("\xff", 100000), "RR\x01" + strings.Repeat("\x00", 100000), strings.Repeat("0 1 ", 100000), strings.Repeat("0", 100000), strings.Repeat("*", 100)}
+	for b := range 256 {
+		for _, ahead := range []string{"", "0", "0 ", "6 6", "0*", "0*1", "0*2", "RR", "RR\x01", "RR\x01\x01", "RR\x01\x01\x01", "RR\x01\x01\x00", "RR\x01\x01\x00\x01"} {
+			list = append(list, ahead+string([]byte{byte(b)}), sealed(ahead+string([]byte{byte(b)})))
+		}
+	}
+	for range 2000 {
+		s := mustEncode(t, anyArtifact(&d))
+		b := []byte(s)
+		d.shake(b)
+		list = append(list, s[:d.roll(len(s))], s+s[:d.roll(len(s))], string(b), sealed(string(b)))
+		noise := make([]byte, d.roll(40))
+		d.shake(noise)
+		list = append(list, string(noise), sealed("RR\x01\x01"+string(noise)))
+	}
+	for _, s := range list {
+		a, e := rerun.Decode(s)
+		if e != api.OK && (e != api.ErrBytes || !isNoArtifact(a)) {
+			t.Errorf("P1: Decode(%.100q): %v, %d", s, a, e)
+		}
+		l, at, e := rerun.Parse(s)
+		if e == api.OK && at != 0 || e != api.OK && (e != api.ErrText || len(l) != 0) || at < 0 || at > len(s) {
+			t.Errorf("P1: Parse(%.100q): %v, %d, %d", s, l, at, e)
+		}
+	}
+}
+
+// Bytes and texts are the same at each call, whatever is called in between or side by side.
+func TestP1BytesAndTextsHangOnArguments(t *testing.T) {
+	a := artifact(program(grow(), grow()), []int{0, 0, 1, 63}, wrong(3))
+	bytes := mustEncode(t, a)
+	same := func() bool {
+		again, _ := rerun.Encode(a)
+		read, _ := rerun.Decode(bytes)
+		text, _ := rerun.Print(a.Schedule)
+		list, _, _ := rerun.Parse("0*2 1 63")
+		return again == bytes && equalArtifacts(read, a) && text == "0*2 1 63" && slices.Equal(list, a.Schedule)
+	}
+	for _, s := range []string{"", bytes[:9], bytes + "0", "0*501", "0 0"} {
+		rerun.Decode(s)
+		rerun.Parse(s)
+		if !same() {
+			t.Errorf("P1: other answers behind calls with %q", s)
+		}
+	}
+	answers := make(chan bool)
+	for range 8 {
+		go func() { answers <- same() }()
+	}
+	for range 8 {
+		if !<-answers {
+			t.Errorf("P1: other answers side by side with others")
 		}
 	}
 }

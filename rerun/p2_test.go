@@ -1,6 +1,7 @@
 package rerun_test
 
 import (
+	"fmt"
 	"slices"
 	"testing"
 
@@ -64,6 +65,9 @@ func TestP2ArgumentsAreAsTheyWere(t *testing.T) {
 		wantP, wantS := wholeProgram(p), slices.Clone(s[:cap(s)])
 		rerun.Check(p)
 		rerun.Replay(p, s)
+		rerun.Encode(artifact(p, s, wrong(7)))
+		rerun.Encode(artifact(p, s, wrong(-1)))
+		rerun.Print(s)
 		if !samePrograms(wholeProgram(p), wantP) || !slices.Equal(s[:cap(s)], wantS) {
 			t.Errorf("P2: line %d: %v, %v, want %v, %v", k, wholeProgram(p), s[:cap(s)], wantP, wantS)
 		}
@@ -128,5 +132,124 @@ func TestP2ArgumentsAreNotKept(t *testing.T) {
 	}
 	if !equalResults(cloneResult(r), want) {
 		t.Errorf("P2: the answer changed with the schedule: %v, want %v", r, want)
+	}
+}
+
+// list is a list of an answer: how to write into all of it, spare room too, and what it holds.
+type list struct {
+	name  string
+	spoil func(n int)
+	holds func() string
+}
+
+func insList(name string, c []api.Ins) list {
+	all := c[:cap(c)]
+	return list{name, func(n int) {
+		for i := range all {
+			all[i] = api.Ins{Op: n, A: n, B: n, N: n}
+		}
+	}, func() string { return fmt.Sprint(all) }}
+}
+
+func numberList(name string, s []int) list {
+	all := s[:cap(s)]
+	return list{name, func(n int) {
+		for i := range all {
+			all[i] = n
+		}
+	}, func() string { return fmt.Sprint(all) }}
+}
+
+func threadList(name string, threads [][]api.Ins) list {
+	all := threads[:cap(threads)]
+	return list{name, func(n int) {
+		for i := range all {
+			all[i] = longThread(1, set(0, n))
+		}
+	}, func() string { return fmt.Sprint(all) }}
+}
+
+func listsOf(name string, a api.Artifact) []list {
+	var all []list
+	for t, c := range a.Program.Threads {
+		all = append(all, insList(fmt.Sprint(name, " thread ", t), c))
+	}
+	return append(all, numberList(name+" schedule", a.Schedule))
+}
+
+// apart tells which two lists share memory: each is written into, and the others must hold what they held.
+func apart(t *testing.T, all []list) {
+	t.Helper()
+	for i, l := range all {
+		var held []string
+		for _, m := range all {
+			held = append(held, m.holds())
+		}
+		l.spoil(1000 + i)
+		for j, m := range all {
+			if j != i && m.holds() != held[j] {
+				t.Fatalf("P2: %s is written into with %s", m.name, l.name)
+			}
+		}
+	}
+}
+
+func TestP2DecodedListsShareNothing(t *testing.T) {
+	d := dice(22)
+	for range 300 {
+		a := anyArtifact(&d)
+		s := mustEncode(t, a)
+		first, _ := rerun.Decode(s)
+		second, _ := rerun.Decode(s)
+		apart(t, append(listsOf("first", first), append(listsOf("second", second), listsOf("given", a)...)...))
+		apart(t, []list{threadList("first threads", first.Program.Threads), threadList("second threads", second.Program.Threads)})
+		if third, e := rerun.Decode(s); e != api.OK || mustEncode(t, third) != s {
+			t.Fatalf("P2: behind spoilt answers: %v, %d", third, e)
+		}
+	}
+}
+
+// A thread that grows in its spare room does not grow into the next one.
+func TestP2DecodedThreadsGrowApart(t *testing.T) {
+	d := dice(23)
+	for range 300 {
+		want := anyArtifact(&d)
+		got, _ := rerun.Decode(mustEncode(t, want))
+		for _, c := range got.Program.Threads {
+			for range 20 {
+				c = append(c, set(1, 77))
+			}
+		}
+		if !equalArtifacts(got, want) {
+			t.Fatalf("P2: %v, want %v", got, want)
+		}
+	}
+}
+
+func TestP2ParsedListsShareNothing(t *testing.T) {
+	for _, s := range []string{"", "0", "0*3 1 2*2", "63*500", "0*2 1*498"} {
+		first, _, _ := rerun.Parse(s)
+		second, _, _ := rerun.Parse(s)
+		want := slices.Clone(first)
+		apart(t, []list{numberList("first", first), numberList("second", second)})
+		if third, _, e := rerun.Parse(s); e != api.OK || !slices.Equal(third, want) {
+			t.Errorf("P2: Parse(%q) behind spoilt answers: %v, %d", s, third, e)
+		}
+	}
+}
+
+func TestP2BytesAndTextsKeepNoArguments(t *testing.T) {
+	a := artifact(program(grow(), grow()), []int{0, 0, 1}, verdict(api.Open))
+	bytes, text := mustEncode(t, a), "0*2 1"
+	printed, _ := rerun.Print(a.Schedule)
+	a.Program.Threads[0][0], a.Schedule[0] = set(0, 9), 5
+	if printed != text || bytes != mustEncode(t, artifact(program(grow(), grow()), []int{0, 0, 1}, verdict(api.Open))) {
+		t.Errorf("P2: %q, % x", printed, bytes)
+	}
+	if again, _ := rerun.Print(a.Schedule); again != "5 0 1" {
+		t.Errorf("P2: the changed schedule: %q", again)
+	}
+	if again := mustEncode(t, a); again != sealed(bodyOf(a)) {
+		t.Errorf("P2: the changed artifact: % x", again)
 	}
 }

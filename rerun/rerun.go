@@ -3,7 +3,9 @@ package rerun
 
 import (
 	"rerun/api"
+	"rerun/artifact"
 	"rerun/machine"
+	"rerun/runs"
 )
 
 // Check tells whether a program is one (P3).
@@ -35,16 +37,34 @@ func checkRun(p api.Program, schedule []int) api.Errno {
 }
 
 // Encode writes an artifact (P4).
-func Encode(a api.Artifact) (string, api.Errno) { return "", api.OK }
+func Encode(a api.Artifact) (string, api.Errno) {
+	if e := artifact.Check(a); e != api.OK {
+		return "", e
+	}
+	return artifact.Write(a), api.OK
+}
 
 // Decode reads an artifact (P4).
-func Decode(bytes string) (api.Artifact, api.Errno) { return api.Artifact{}, api.OK }
+func Decode(bytes string) (api.Artifact, api.Errno) {
+	return artifact.Read(bytes)
+}
 
 // Print writes a schedule (P5).
-func Print(schedule []int) (string, api.Errno) { return "", api.OK }
+func Print(schedule []int) (string, api.Errno) {
+	if !runs.Valid(schedule) {
+		return "", api.ErrArg
+	}
+	return runs.Print(schedule), api.OK
+}
 
 // Parse reads a schedule (P5).
-func Parse(text string) ([]int, int, api.Errno) { return nil, 0, api.OK }
+func Parse(text string) ([]int, int, api.Errno) {
+	schedule, at, ok := runs.Parse(text)
+	if !ok {
+		return nil, at, api.ErrText
+	}
+	return schedule, 0, api.OK
+}
 
 // Form is a schedule's form (P6).
 func Form(p api.Program, schedule []int) ([]int, api.Errno) { return nil, api.OK }
