@@ -59,7 +59,7 @@ func (m *Machine) Run(schedule []int) api.Result {
 }
 
 func (m *Machine) follow(s *state, schedule []int) ([]api.Step, api.Verdict) {
-	var steps []api.Step
+	steps := make([]api.Step, 0, len(schedule))
 	for i, t := range schedule {
 		if !below(t, len(m.threads)) || !m.ready(s, t) {
 			return steps, api.Verdict{Kind: api.Wrong, At: i}

@@ -39,3 +39,25 @@ func TestMachineKeepsNoProgram(t *testing.T) {
 		t.Errorf("%v", r)
 	}
 }
+
+func TestSameVerdicts(t *testing.T) {
+	for _, c := range []struct {
+		a, b api.Verdict
+		want bool
+	}{
+		{api.Verdict{Kind: api.Failed, Thread: 1, At: 2}, api.Verdict{Kind: api.Failed, Thread: 1, At: 2}, true},
+		{api.Verdict{Kind: api.Failed, Thread: 1, At: 2}, api.Verdict{Kind: api.Failed, Thread: 0, At: 2}, false},
+		{api.Verdict{Kind: api.Failed, Thread: 1, At: 2}, api.Verdict{Kind: api.Failed, Thread: 1, At: 3}, false},
+		{api.Verdict{Kind: api.Failed, At: 2}, api.Verdict{Kind: api.Wrong, At: 2}, false},
+		{api.Verdict{Kind: api.Wrong, At: 2}, api.Verdict{Kind: api.Wrong, At: 2}, true},
+		{api.Verdict{Kind: api.Wrong, At: 2}, api.Verdict{Kind: api.Wrong, At: 499}, true},
+		{api.Verdict{Kind: api.Wrong}, api.Verdict{Kind: api.Open}, false},
+		{api.Verdict{Kind: api.Clean}, api.Verdict{Kind: api.Clean}, true},
+		{api.Verdict{Kind: api.Clean}, api.Verdict{Kind: api.Stuck}, false},
+		{api.Verdict{Kind: api.Stuck}, api.Verdict{Kind: api.Open}, false},
+	} {
+		if SameVerdict(c.a, c.b) != c.want || SameVerdict(c.b, c.a) != c.want {
+			t.Errorf("%v and %v: want %v", c.a, c.b, c.want)
+		}
+	}
+}

@@ -60,7 +60,7 @@ func callAll(t *testing.T, p api.Program, a, b []int, n int, text string) {
 	if e != api.OK && same {
 		t.Errorf("P1: Same(%v, %v, %v): true beside the error %d", p, a, b, e)
 	}
-	short, runs, e := rerun.Shorten(p, a, min(n, 20))
+	short, runs, e := rerun.Shorten(p, a, n)
 	if e != api.OK && (len(short) != 0 || runs != 0) {
 		t.Errorf("P1: Shorten(%v, %v): beside the error %d: %v, %d", p, a, e, short, runs)
 	}
@@ -224,6 +224,111 @@ func TestP1AnswersHangOnArguments(t *testing.T) {
 	for range 8 {
 		if got := <-answers; !equalResults(got, want) {
 			t.Errorf("P1: side by side with others: %v, want %v", got, want)
+		}
+	}
+}
+
+// Form, Same and Shorten at each program, each schedule and each fuel of the
+// edges: the first error that applies, with nothing beside it.
+func TestP1FormSameShortenAtEdges(t *testing.T) {
+	for _, p := range edgePrograms() {
+		for _, a := range edgeSchedules() {
+			first := edgeError(p, a)
+			if form, e := rerun.Form(p, a); e != first || e != api.OK && len(form) != 0 {
+				t.Errorf("P1: Form(%.100v, %d numbers): %v, %d, want %d", p, len(a), form, e, first)
+			}
+			for _, b := range edgeSchedules() {
+				want := edgeError(p, a, b)
+				if same, e := rerun.Same(p, a, b); e != want || e != api.OK && same {
+					t.Errorf("P1: Same(%.100v, %d numbers, %d numbers): %v, %d, want %d", p, len(a), len(b), same, e, want)
+				}
+			}
+			for _, fuel := range edgeNumbers {
+				want := first
+				if want == api.OK && fuel < 0 {
+					want = api.ErrArg
+				}
+				short, runs, e := rerun.Shorten(p, a, fuel)
+				if e != want || e != api.OK && (len(short) != 0 || runs != 0) {
+					t.Errorf("P1: Shorten(%.100v, %d numbers, %d): %v, %d, %d, want %d", p, len(a), fuel, short, runs, e, want)
+				}
+			}
+		}
+	}
+}
+
+func edgeError(p api.Program, schedules ...[]int) api.Errno {
+	if e := rerun.Check(p); e != api.OK {
+		return e
+	}
+	for _, s := range schedules {
+		if len(s) > 500 {
+			return api.ErrArg
+		}
+	}
+	return api.OK
+}
+
+// Programs and schedules of any numbers: no call panics, and each one ends.
+func TestP1AnyFormSameShorten(t *testing.T) {
+	d := dice(12)
+	for range 3000 {
+		p := anyProgram(&d)
+		if d.roll(3) == 0 {
+			spoilProgram(&d, p)
+		}
+		a, b := anyNumbers(&d), anyNumbers(&d)
+		callAll(t, p, a, b, oneOf(&d, edgeNumbers...), "")
+	}
+}
+
+// spoilProgram sets a few numbers of a program anew.
+func spoilProgram(d *dice, p api.Program) {
+	for _, c := range p.Threads {
+		if len(c) > 0 {
+			in := &c[d.roll(len(c))]
+			*oneOf(d, &in.Op, &in.A, &in.B, &in.N) = oneOf(d, edgeNumbers...)
+		}
+	}
+}
+
+func anyNumbers(d *dice) []int {
+	var s []int
+	for range oneOf(d, 0, 1, 10, 100, 499, 500, 501) {
+		s = append(s, oneOf(d, 0, 1, 2, 3, d.roll(4), d.roll(4)))
+	}
+	for range min(len(s), d.roll(3)) {
+		s[d.roll(len(s))] = oneOf(d, edgeNumbers...)
+	}
+	return s
+}
+
+// Forms and shorter schedules are the same at each call, whatever is called
+// in between or side by side, and with any spare room.
+func TestP1FormSameShortenHangOnArguments(t *testing.T) {
+	p, s := blocks(), []int{2, 0, 0, 2, 1, 1, 7}
+	same := func(p api.Program, s []int) bool {
+		form, _ := rerun.Form(p, s)
+		is, _ := rerun.Same(p, s, []int{0, 2, 0, 2, 9})
+		short, runs, _ := rerun.Shorten(p, s, 99)
+		cut, cutRuns, _ := rerun.Shorten(p, s, 2)
+		return slices.Equal(form, []int{0, 2, 0, 2}) && is && slices.Equal(short, []int{2, 2}) && runs == 6 && slices.Equal(cut, []int{2, 0, 2}) && cutRuns == 2
+	}
+	for _, q := range edgePrograms() {
+		rerun.Form(q, []int{0, 0, 0})
+		rerun.Same(q, s, s)
+		rerun.Shorten(q, []int{0, 1, 0, 1}, 3)
+		if !same(p, s) || !same(roomyProgram(p), roomySchedule(s)) {
+			t.Fatalf("P1: other answers behind calls with %v", q)
+		}
+	}
+	answers := make(chan bool)
+	for range 8 {
+		go func() { answers <- same(p, s) }()
+	}
+	for range 8 {
+		if !<-answers {
+			t.Errorf("P1: other answers side by side with others")
 		}
 	}
 }

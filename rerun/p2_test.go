@@ -68,6 +68,11 @@ func TestP2ArgumentsAreAsTheyWere(t *testing.T) {
 		rerun.Encode(artifact(p, s, wrong(7)))
 		rerun.Encode(artifact(p, s, wrong(-1)))
 		rerun.Print(s)
+		rerun.Form(p, s)
+		rerun.Same(p, s, s)
+		for _, fuel := range []int{least, -1, 0, 1, 2, 5, 1000, greatest} {
+			rerun.Shorten(p, s, fuel)
+		}
 		if !samePrograms(wholeProgram(p), wantP) || !slices.Equal(s[:cap(s)], wantS) {
 			t.Errorf("P2: line %d: %v, %v, want %v, %v", k, wholeProgram(p), s[:cap(s)], wantP, wantS)
 		}
@@ -251,5 +256,92 @@ func TestP2BytesAndTextsKeepNoArguments(t *testing.T) {
 	}
 	if again := mustEncode(t, a); again != sealed(bodyOf(a)) {
 		t.Errorf("P2: the changed artifact: % x", again)
+	}
+}
+
+// What Form, Same and Shorten are handed, of many programs and schedules, is as it was behind each call.
+func TestP2FormSameShortenChangeNothing(t *testing.T) {
+	d := dice(24)
+	for range 2000 {
+		q, list := anyRun(&d, 30)
+		p, s, other := roomyProgram(q), roomySchedule(list), roomySchedule(changed(&d, list))
+		wantP, wantS, wantOther := wholeProgram(p), slices.Clone(s[:cap(s)]), slices.Clone(other[:cap(other)])
+		for k, call := range []func(){
+			func() { rerun.Form(p, s) },
+			func() { rerun.Same(p, s, other) },
+			func() { rerun.Shorten(p, s, 0) },
+			func() { rerun.Shorten(p, s, 1+d.roll(40)) },
+			func() { rerun.Shorten(p, s, greatest) },
+		} {
+			call()
+			if !samePrograms(wholeProgram(p), wantP) || !slices.Equal(s[:cap(s)], wantS) || !slices.Equal(other[:cap(other)], wantOther) {
+				t.Fatalf("P2: call %d: %v, %v, %v, want %v, %v, %v", k, wholeProgram(p), s[:cap(s)], other[:cap(other)], wantP, wantS, wantOther)
+			}
+		}
+	}
+}
+
+// The schedules that Form and Shorten answer share nothing with what they
+// were handed nor with other answers; behind spoilt ones the answers are the same.
+func TestP2FormAndShortenAnswerNewMemory(t *testing.T) {
+	d := dice(25)
+	cases := runCases()
+	for range 500 {
+		p, s := anyRun(&d, 30)
+		cases = append(cases, runCase{p, s})
+	}
+	for k, c := range cases {
+		p, s := roomyProgram(c.p), roomySchedule(c.s)
+		handed, want := wholeProgram(p), schedulesOf(p, s)
+		apart(t, append(answerLists(p, s), numberList("the schedule", s)))
+		if !samePrograms(wholeProgram(p), handed) {
+			t.Fatalf("P2: line %d: the program changed with an answer", k)
+		}
+		if got := schedulesOf(p, roomySchedule(c.s)); !slices.EqualFunc(got, want, func(a, b []int) bool { return slices.Equal(a, b) }) {
+			t.Fatalf("P2: line %d: behind spoilt answers: %v, want %v", k, got, want)
+		}
+	}
+}
+
+// schedulesOf are answers of Form and Shorten, some of them twice.
+func schedulesOf(p api.Program, s []int) [][]int {
+	var all [][]int
+	for range 2 {
+		form, _ := rerun.Form(p, s)
+		all = append(all, form)
+		for _, fuel := range []int{0, 1, 5, greatest} {
+			short, _, _ := rerun.Shorten(p, s, fuel)
+			all = append(all, short)
+		}
+	}
+	return all
+}
+
+func answerLists(p api.Program, s []int) []list {
+	var all []list
+	for i, l := range schedulesOf(p, s) {
+		all = append(all, numberList(fmt.Sprint("answer ", i), l))
+	}
+	return all
+}
+
+// An answer stays as it was, though the arguments change; and calls with these see the change.
+func TestP2FormSameShortenKeepNothing(t *testing.T) {
+	p, s := late(), []int{0, 1, 1, 1, 0}
+	form := mustForm(t, p, s)
+	short, _, _ := rerun.Shorten(p, s, 99)
+	cut, _, _ := rerun.Shorten(p, s, 0)
+	p.Threads[0], p.Threads[1][2], s[0] = nil, set(0, 1), 1
+	if !slices.Equal(form, []int{0, 1, 1, 1}) || !slices.Equal(short, []int{1, 1, 1}) || !slices.Equal(cut, []int{0, 1, 1, 1}) {
+		t.Errorf("P2: the answers changed with the arguments: %v, %v, %v", form, short, cut)
+	}
+	if again := mustForm(t, p, s); !slices.Equal(again, []int{1, 1, 1}) {
+		t.Errorf("P2: the form of the changed schedule: %v", again)
+	}
+	if again, runs, _ := rerun.Shorten(p, s, 99); !slices.Equal(again, times(4, 1)) || runs != 4 {
+		t.Errorf("P2: the changed schedule made shorter: %v, %d", again, runs)
+	}
+	if !mustSame(t, p, s, []int{1, 1, 1, 9}) {
+		t.Errorf("P2: Same of the changed schedule")
 	}
 }

@@ -2,10 +2,14 @@
 package rerun
 
 import (
+	"slices"
+
 	"rerun/api"
 	"rerun/artifact"
+	"rerun/layers"
 	"rerun/machine"
 	"rerun/runs"
+	"rerun/shorten"
 )
 
 // Check tells whether a program is one (P3).
@@ -24,14 +28,16 @@ func Replay(p api.Program, schedule []int) (api.Result, api.Errno) {
 	return machine.New(p).Run(schedule), api.OK
 }
 
-// checkRun tells what keeps a program from being run by a schedule: the
-// program is looked at first, whatever the schedule is.
-func checkRun(p api.Program, schedule []int) api.Errno {
+// checkRun tells what keeps a program from being run by schedules: the
+// program is looked at first, whatever the schedules are.
+func checkRun(p api.Program, schedules ...[]int) api.Errno {
 	if e := Check(p); e != api.OK {
 		return e
 	}
-	if len(schedule) > api.MaxSchedule {
-		return api.ErrArg
+	for _, s := range schedules {
+		if len(s) > api.MaxSchedule {
+			return api.ErrArg
+		}
 	}
 	return api.OK
 }
@@ -67,12 +73,34 @@ func Parse(text string) ([]int, int, api.Errno) {
 }
 
 // Form is a schedule's form (P6).
-func Form(p api.Program, schedule []int) ([]int, api.Errno) { return nil, api.OK }
+func Form(p api.Program, schedule []int) ([]int, api.Errno) {
+	if e := checkRun(p, schedule); e != api.OK {
+		return nil, e
+	}
+	return layers.Form(p, machine.New(p).Run(schedule)), api.OK
+}
 
 // Same tells whether two schedules are the same (P6).
-func Same(p api.Program, a []int, b []int) (bool, api.Errno) { return false, api.OK }
+func Same(p api.Program, a []int, b []int) (bool, api.Errno) {
+	if e := checkRun(p, a, b); e != api.OK {
+		return false, e
+	}
+	m := machine.New(p)
+	x, y := m.Run(a), m.Run(b)
+	if !machine.SameVerdict(x.Verdict, y.Verdict) {
+		return false, api.OK
+	}
+	return slices.Equal(layers.Form(p, x), layers.Form(p, y)), api.OK
+}
 
 // Shorten makes a schedule shorter (P7).
 func Shorten(p api.Program, schedule []int, fuel int) ([]int, int, api.Errno) {
-	return nil, 0, api.OK
+	if e := checkRun(p, schedule); e != api.OK {
+		return nil, 0, e
+	}
+	if fuel < 0 {
+		return nil, 0, api.ErrArg
+	}
+	short, runs := shorten.Schedule(machine.New(p), schedule, fuel)
+	return short, runs, api.OK
 }
